@@ -1,0 +1,1 @@
+"""Rowrules: endless rows of signs, ruled by their neighbours."""
