@@ -84,5 +84,18 @@ def by_number(signs, low, many, number):
     return rule(signs, low, list(reversed(figures)))
 
 
+# The numbers of the window's words that have all signs but the last from the word with the number head, and that are
+# told this sign. They rise, as their last signs do.
+def told_from(one, head, sign):
+    first = head * one[0]
+    return [number for number in range(first, first + one[0]) if one[2][number] == sign]
+
+
+# How many words are shorter by one than the window. The last signs of a window's word are, by their number, the rest
+# when the word's own number is divided by this.
+def heads(one):
+    return len(one[2]) // one[0]
+
+
 def still(signs):
     return rule(signs, 0, list(range(signs)))

@@ -25,6 +25,12 @@ def check_length(word, signs, many):
         raise NoRow(min(len(word), many))
 
 
+def check_at_least(word, signs, fewest):
+    check_word(word, signs)
+    if len(word) < fewest:
+        raise NoRow(len(word))
+
+
 def number_of(word, signs):
     check_word(word, signs)
     number = 0

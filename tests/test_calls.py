@@ -3,11 +3,17 @@
 import copy
 import unittest
 
+from rowrules.before import all_before, before_at, many_before, place_before
 from rowrules.errors import RowError
+from rowrules.forms import counting, narrow, same, widened
+from rowrules.joins import joined, moved, repeated, turned
+from rowrules.rows import after, comes_again, led, led_ring
 from rowrules.rules import by_number, next_sign, number_by, places, rule, still
 from rowrules.words import is_whole, number_of, word_of
 
 ONE = (2, -1, (0, 1, 1, 1, 0, 1, 1, 0))
+STILL = (2, 0, (0, 1))
+WIDE = (2, 0, (0, 1) * 127 + (1, 1))
 CALLS = [
     (is_whole, [3]),
     (is_whole, [[True]]),
@@ -30,6 +36,50 @@ CALLS = [
     (by_number, [2, -1, 3, 256]),
     (by_number, [2, -1, [3], [1]]),
     (still, [4]),
+    (led, [ONE, [0, 1, 1, 0, 1]]),
+    (led, [STILL, [0, 1, 1, 0, 1]]),
+    (led, [ONE, []]),
+    (led, [ONE, [0, [1], 1]]),
+    (led_ring, [ONE, [0, 1, 1, 0, 1]]),
+    (led_ring, [STILL, [0, 1]]),
+    (led_ring, [ONE, []]),
+    (after, [ONE, [0, 1, 1]]),
+    (after, [ONE, [0, 1, 1], 0]),
+    (after, [STILL, [0, 1, 1], 5]),
+    (after, [ONE, [0, 1, 2], 0]),
+    (comes_again, [ONE, [0, 1, 1, 0, 1]]),
+    (comes_again, [ONE, [0, 1, 1, 0, 1], 2]),
+    (comes_again, [ONE, [[]], 2]),
+    (counting, [ONE]),
+    (counting, [(2, 3, (1, 1))]),
+    (narrow, [ONE]),
+    (narrow, [WIDE]),
+    (same, [ONE, ONE]),
+    (same, [ONE, STILL]),
+    (widened, [ONE, -2, 3]),
+    (widened, [ONE, 0, 0]),
+    (widened, [ONE, -10, 10]),
+    (moved, [ONE, 4]),
+    (turned, [ONE]),
+    (joined, [ONE, STILL]),
+    (joined, [ONE, (3, 0, (0, 1, 2))]),
+    (joined, [ONE, WIDE]),
+    (repeated, [ONE, 3]),
+    (repeated, [ONE, 0]),
+    (repeated, [ONE, 4]),
+    (many_before, [ONE, [0, 1, 1]]),
+    (many_before, [ONE, [0, 1, 3]]),
+    (before_at, [ONE, [0, 1, 1], 1]),
+    (before_at, [STILL, [0, 1, 1], 0]),
+    (before_at, [ONE, [0, 1, 1], 100]),
+    (before_at, [ONE, [0, [1], 1], 100]),
+    (place_before, [ONE, [0, 1, 1]]),
+    (place_before, [ONE, [0]]),
+    (all_before, [ONE, [0, 1, 1]]),
+    (all_before, [STILL, [0, 1, 1]]),
+    (all_before, [ONE, [0, 1, 1], 2]),
+    (all_before, [ONE, [0, 1, 1], 0]),
+    (all_before, [ONE, [None]]),
 ]
 
 
@@ -38,6 +88,16 @@ def answer(call, given):
         return call(*given)
     except RowError as refusal:
         return (type(refusal), vars(refusal))
+
+
+def change_lists(told):
+    """Changes each list that the answer holds, at any depth."""
+    if isinstance(told, (list, tuple)):
+        for part in told:
+            change_lists(part)
+    if isinstance(told, list):
+        told.append(99)
+        told.reverse()
 
 
 class TestCalls(unittest.TestCase):
@@ -52,6 +112,27 @@ class TestCalls(unittest.TestCase):
         first = [answer(call, copy.deepcopy(given)) for call, given in CALLS]
         again = [answer(call, copy.deepcopy(given)) for call, given in reversed(CALLS)]
         self.assertEqual(first, list(reversed(again)))
+
+    def test_no_answer_that_is_changed_reaches_another_one_or_what_was_given(self):
+        for call, given in CALLS:
+            with self.subTest((call.__name__, given)):
+                before = copy.deepcopy(given)
+                early = answer(call, given)
+                kept = copy.deepcopy(early)
+                change_lists(answer(call, given))
+                self.assertEqual(given, before)
+                self.assertEqual(early, kept)
+                self.assertEqual(answer(call, given), kept)
+
+    def test_a_given_list_that_is_changed_later_reaches_no_answer(self):
+        for call, given in CALLS:
+            with self.subTest((call.__name__, given)):
+                handed = copy.deepcopy(given)
+                early = answer(call, handed)
+                kept = copy.deepcopy(early)
+                change_lists(handed)
+                self.assertEqual(early, kept)
+                self.assertEqual(answer(call, copy.deepcopy(given)), kept)
 
     def test_a_told_list_that_is_changed_reaches_no_other_answer(self):
         early = word_of(5, 2, 4)

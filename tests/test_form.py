@@ -20,6 +20,12 @@ OUT_NAMES = """register mro elements open input version_info with_traceback add_
     methodcaller os quit setattr super type vars sys format format_map chr print""".split()
 OUT_WORDS = """type typing typing_extensions enum Enum IntEnum StrEnum Flag IntFlag Generic Protocol ABC ABCMeta
     namedtuple NamedTuple TypedDict TYPE_CHECKING abstractmethod""".split()
+WALKED = "zip enumerate reversed range items keys values".split()
+WALKERS = "list tuple dict sorted sum any all enumerate zip min max join".split()
+KEYWORDS = {
+    "sorted": ["key", "reverse"], "min": ["key", "default"], "max": ["key", "default"], "sum": ["start"],
+    "enumerate": ["start"], "zip": ["strict"],
+}
 OUT_PARTS = ["dataclass", "overload", "contextmanager"]
 TOP_NODES = (ast.ImportFrom, ast.FunctionDef, ast.ClassDef, ast.Assign)
 OUT_NODES = (
@@ -57,6 +63,19 @@ def bound_at_top(tree):
 
 def drawn_from(tree):
     return [node.module for node in tree.body if isinstance(node, ast.ImportFrom)]
+
+
+def called(node):
+    return getattr(node.func, "id", getattr(node.func, "attr", None))
+
+
+def walked_on_the_spot(tree):
+    """What stands behind the `in` of a walk, or first in a call that walks it."""
+    found = [node.iter for node in ast.walk(tree) if isinstance(node, (ast.For, ast.comprehension))]
+    for node in ast.walk(tree):
+        if isinstance(node, ast.Call) and called(node) in WALKERS:
+            found.extend(node.args if called(node) == "zip" else node.args[:1])
+    return found
 
 
 class TestForm(unittest.TestCase):
@@ -133,6 +152,39 @@ class TestForm(unittest.TestCase):
         for name, node in nodes_of((ast.FunctionDef, ast.ClassDef)):
             if node.name not in TWO_UNDERSCORES:
                 self.assertRegex(node.name, r"^[A-Za-z][A-Za-z0-9_]*$", name)
+
+    def test_no_local_is_called_like_a_class_or_an_import(self):
+        for name, tree in trees():
+            taken = [node.name for node in tree.body if isinstance(node, ast.ClassDef)]
+            taken += [alias.name for node in tree.body if isinstance(node, ast.ImportFrom) for alias in node.names]
+            for node in ast.walk(tree):
+                if isinstance(node, ast.Name) and isinstance(node.ctx, ast.Store):
+                    self.assertNotIn(node.id, taken, f"{name}:{node.lineno}")
+                if isinstance(node, ast.arg):
+                    self.assertNotIn(node.arg, taken, f"{name}:{node.lineno}")
+
+    def test_walked_at_once(self):
+        for name, tree in trees():
+            walked = walked_on_the_spot(tree)
+            for node in ast.walk(tree):
+                if isinstance(node, ast.Call) and called(node) in WALKED:
+                    self.assertIn(node, walked, f"{name}:{node.lineno}")
+
+    def test_comprehensions_and_keywords(self):
+        for name, node in nodes_of(ast.ListComp):
+            self.assertEqual(len(node.generators), 1, f"{name}:{node.lineno}")
+            self.assertLessEqual(len(node.generators[0].ifs), 1, f"{name}:{node.lineno}")
+        for name, node in nodes_of(ast.Call):
+            own = hasattr(builtins, str(called(node))) or called(node) in METHODS
+            for keyword in node.keywords if own else []:
+                self.assertIn(keyword.arg, KEYWORDS.get(called(node), []), f"{name}:{node.lineno}")
+
+    def test_sets_are_not_kept(self):
+        for name, node in nodes_of(ast.Set):
+            self.fail(f"{name}:{node.lineno}")
+        for name, node in nodes_of(ast.Assign):
+            if isinstance(node.value, ast.Call):
+                self.assertNotIn(called(node.value), ("set", "frozenset"), f"{name}:{node.lineno}")
 
     def test_methods_that_are_called(self):
         free = METHODS + own_methods() + TWO_UNDERSCORES

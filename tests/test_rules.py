@@ -1,25 +1,13 @@
 """Rules, what they tell, their numbers, and the rule that stands still (points 5 to 8)."""
 
-import itertools
 import unittest
 
-from rowrules.errors import NoRow, NoRule
+from helper import ALL_SIGNS, LOWS, MOST_PLACES, NO_SIGNS, WINDOWS, Refusals
+from helper import mixed_rule, mixed_table, words_in_order
+from rowrules.errors import NoRule
 from rowrules.rules import by_number, next_sign, number_by, places, rule, still
 
-ALL_SIGNS = range(2, 10)
-MOST_PLACES = {2: 8, 3: 5, 4: 4, 5: 3, 6: 3, 7: 2, 8: 2, 9: 2}
-WINDOWS = [(signs, many) for signs in ALL_SIGNS for many in range(1, MOST_PLACES[signs] + 1)]
-LOWS = [0, 1, -1, 7, -300, 10 ** 299, -(10 ** 299)]
 NO_WHOLE = [True, False, None, "", "2", "0", [], [2], (2,), {}, 2.0, 0.0]
-NO_SIGNS = NO_WHOLE + [-1, 10 ** 299, -(10 ** 299)]
-
-
-def mixed_table(signs, length):
-    return [(k * k + 5 * k // 3 + 1) % signs for k in range(length)]
-
-
-def mixed_rule(signs, many, low=0):
-    return rule(signs, low, mixed_table(signs, signs ** many))
 
 
 class TestRule(unittest.TestCase):
@@ -105,7 +93,7 @@ class TestNextSign(unittest.TestCase):
         for signs, many in WINDOWS:
             for low in (0, -3, 10 ** 299):
                 one = mixed_rule(signs, many, low)
-                words = [list(word) for word in itertools.product(range(signs), repeat=many)]
+                words = words_in_order(signs, many)
                 self.assertEqual([next_sign(one, word) for word in words], mixed_table(signs, signs ** many))
 
     def test_a_rule_of_three_places(self):
@@ -121,48 +109,44 @@ class TestNextSign(unittest.TestCase):
         self.assertEqual(word, [1, 0, 1])
 
 
-class TestNoRow(unittest.TestCase):
-    def refused(self, one, word, at):
-        with self.subTest((one, word)):
-            with self.assertRaises(NoRow) as caught:
-                next_sign(one, word)
-            self.assertEqual(caught.exception.at, at)
-            self.assertIs(type(caught.exception.at), int)
+class TestNoRow(Refusals):
+    def refused_word(self, one, word, at):
+        self.refused_at(at, next_sign, one, word)
 
     def test_whatever_is_no_sign_at_any_place(self):
         for signs, many in WINDOWS:
             one = mixed_rule(signs, many)
             for wrong in NO_SIGNS + [signs, signs + 1]:
                 for at in range(many):
-                    self.refused(one, [0] * at + [wrong] + [1] * (many - at - 1), at)
+                    self.refused_word(one, [0] * at + [wrong] + [1] * (many - at - 1), at)
 
     def test_the_first_of_several(self):
         one = mixed_rule(3, 4)
-        self.refused(one, [0, 3, None, True], 1)
-        self.refused(one, [0, 0, "1", -1], 2)
-        self.refused(one, [None, 0, 0, []], 0)
+        self.refused_word(one, [0, 3, None, True], 1)
+        self.refused_word(one, [0, 0, "1", -1], 2)
+        self.refused_word(one, [None, 0, 0, []], 0)
 
     def test_too_short(self):
         for signs, many in WINDOWS:
             for length in range(many):
-                self.refused(mixed_rule(signs, many), [1] * length, length)
+                self.refused_word(mixed_rule(signs, many), [1] * length, length)
 
     def test_too_long(self):
         for signs, many in WINDOWS:
             for more in (1, 2, 200):
-                self.refused(mixed_rule(signs, many), [1] * (many + more), many)
+                self.refused_word(mixed_rule(signs, many), [1] * (many + more), many)
 
     def test_too_long_with_what_is_no_sign_behind(self):
         for wrong in NO_SIGNS:
-            self.refused(mixed_rule(2, 2), [0, 1, wrong], 2)
-            self.refused(mixed_rule(2, 2), [0, 1, 1, wrong], 2)
+            self.refused_word(mixed_rule(2, 2), [0, 1, wrong], 2)
+            self.refused_word(mixed_rule(2, 2), [0, 1, 1, wrong], 2)
 
     def test_what_is_no_sign_goes_ahead_of_the_length(self):
         one = mixed_rule(2, 4)
-        self.refused(one, [0, 2], 1)
-        self.refused(one, [None], 0)
-        self.refused(one, [0, 0, True, 0, 0], 2)
-        self.refused(one, [0, 0, 0, 2, 0, 2], 3)
+        self.refused_word(one, [0, 2], 1)
+        self.refused_word(one, [None], 0)
+        self.refused_word(one, [0, 0, True, 0, 0], 2)
+        self.refused_word(one, [0, 0, 0, 2, 0, 2], 3)
 
 
 class TestNumberBy(unittest.TestCase):

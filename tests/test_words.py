@@ -1,21 +1,10 @@
 """Words and their numbers (points 4 and 8)."""
 
-import itertools
 import unittest
 
-from rowrules.errors import NoRow, NoSuch
+from helper import ALL_SIGNS, NO_SIGNS, Refusals, mixed_word, words_in_order
+from rowrules.errors import NoSuch
 from rowrules.words import is_whole, number_of, word_of
-
-ALL_SIGNS = range(2, 10)
-NO_SIGNS = [True, False, None, "1", "", [], [0], (0,), {}, 1.0, 0.0, -1, -(10 ** 299), 10 ** 299]
-
-
-def words_in_order(signs, many):
-    return [list(word) for word in itertools.product(range(signs), repeat=many)]
-
-
-def mixed_word(signs, many):
-    return [(k * k + 3 * k // 2 + 1) % signs for k in range(many)]
 
 
 class TestIsWhole(unittest.TestCase):
@@ -76,54 +65,49 @@ class TestNumbers(unittest.TestCase):
         self.assertIs(type(number_of(word, 2)), int)
 
 
-class TestNoSuch(unittest.TestCase):
-    def refused(self, number, signs, many):
-        with self.subTest((number, signs, many)), self.assertRaises(NoSuch):
-            word_of(number, signs, many)
+class TestNoSuch(Refusals):
+    def refused_number(self, number, signs, many):
+        self.refused(NoSuch, word_of, number, signs, many)
 
     def test_below_nought(self):
         for signs in ALL_SIGNS:
             for many in (0, 1, 2, 300):
-                self.refused(-1, signs, many)
-                self.refused(-signs, signs, many)
-                self.refused(-(10 ** 299), signs, many)
+                self.refused_number(-1, signs, many)
+                self.refused_number(-signs, signs, many)
+                self.refused_number(-(10 ** 299), signs, many)
 
     def test_too_great(self):
         for signs in ALL_SIGNS:
             for many in (0, 1, 2, 7, 300):
-                self.refused(signs ** many, signs, many)
-                self.refused(signs ** many + 1, signs, many)
-                self.refused(signs ** (many + 1), signs, many)
+                self.refused_number(signs ** many, signs, many)
+                self.refused_number(signs ** many + 1, signs, many)
+                self.refused_number(signs ** (many + 1), signs, many)
 
 
-class TestNoRow(unittest.TestCase):
-    def refused(self, word, signs, at):
-        with self.subTest((word, signs)):
-            with self.assertRaises(NoRow) as caught:
-                number_of(word, signs)
-            self.assertEqual(caught.exception.at, at)
-            self.assertIs(type(caught.exception.at), int)
+class TestNoRow(Refusals):
+    def refused_word(self, word, signs, at):
+        self.refused_at(at, number_of, word, signs)
 
     def test_whatever_is_no_sign_at_any_place(self):
         for signs in ALL_SIGNS:
             for wrong in NO_SIGNS + [signs, signs + 1]:
                 for at in range(4):
-                    self.refused([0] * at + [wrong] + [1] * (3 - at), signs, at)
+                    self.refused_word([0] * at + [wrong] + [1] * (3 - at), signs, at)
 
     def test_the_greatest_sign_is_one(self):
         for signs in ALL_SIGNS:
             self.assertEqual(number_of([signs - 1], signs), signs - 1)
-            self.refused([signs], signs, 0)
+            self.refused_word([signs], signs, 0)
 
     def test_the_first_of_several(self):
-        self.refused([0, 2, None, -1], 2, 1)
-        self.refused([1, 0, "1", 5, True], 3, 2)
-        self.refused([True, 9, []], 9, 0)
-        self.refused([None, None], 4, 0)
+        self.refused_word([0, 2, None, -1], 2, 1)
+        self.refused_word([1, 0, "1", 5, True], 3, 2)
+        self.refused_word([True, 9, []], 9, 0)
+        self.refused_word([None, None], 4, 0)
 
     def test_far_behind(self):
-        self.refused([0] * 299 + [True], 2, 299)
-        self.refused([8] * 299 + [9], 9, 299)
+        self.refused_word([0] * 299 + [True], 2, 299)
+        self.refused_word([8] * 299 + [9], 9, 299)
 
 
 if __name__ == "__main__":
