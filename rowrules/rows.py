@@ -43,7 +43,7 @@ def after(one, ring, times=1):
 
 def comes_again(one, ring, most=64):
     check_at_least(ring, one[0], 1)
-    come = list(ring)
+    come = ring
     seen = {tuple(come): 0}
     for times in range(1, most + 1):
         come = lead_ring(one, come)

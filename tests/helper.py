@@ -9,6 +9,8 @@ from rowrules.errors import NoRow, RowError
 ALL_SIGNS = range(2, 10)
 MOST_PLACES = {2: 8, 3: 5, 4: 4, 5: 3, 6: 3, 7: 2, 8: 2, 9: 2}
 WINDOWS = [(signs, many) for signs in ALL_SIGNS for many in range(1, MOST_PLACES[signs] + 1)]
+SMALL_WINDOWS = [(signs, many) for signs, many in WINDOWS if many == 1 or signs ** (many - 1) <= 9]
+LARGE_WINDOWS = [window for window in WINDOWS if window not in SMALL_WINDOWS]
 LOWS = [0, 1, -1, 7, -300, 10 ** 60 + 7, -(10 ** 60) - 3, 10 ** 299, -(10 ** 299)]
 NO_SIGNS = [True, False, None, "", "1", [], [0], (0,), {}, 1.0, 0.0, -1, -(10 ** 299), 10 ** 299]
 
@@ -19,6 +21,11 @@ def mixed_table(signs, length):
 
 def mixed_rule(signs, many, low=0):
     return (signs, low, tuple(mixed_table(signs, signs ** many)))
+
+
+# Every place of its window counts.
+def large_rule(signs, many, low=0):
+    return (signs, low, (1,) + (0,) * (signs ** many - 1))
 
 
 def mixed_word(signs, many):
@@ -62,6 +69,34 @@ def stretch_led(one, row):
 
 def ring_led(one, ring):
     return [next_at(one, lambda place: ring[place % len(ring)], i) for i in range(len(ring))]
+
+
+def counts_by_hand(one, at):
+    for word in words_in_order(one[0], places_by(one)):
+        for sign in range(one[0]):
+            if told_by(one, word) != told_by(one, word[:at] + [sign] + word[at + 1:]):
+                return True
+    return False
+
+
+def counting_by_hand(one):
+    return [one[1] + at for at in range(places_by(one)) if counts_by_hand(one, at)]
+
+
+def frame_by_hand(one):
+    """The rule by its narrowest window, or by that of two places, looked at with noughts all about the window."""
+    found = counting_by_hand(one) or [0]
+    first, last = found[0], max(found[-1], found[0] + 1)
+
+    def tell(word):
+        return next_at(one, lambda place: word[place - first] if first <= place <= last else 0, 0)
+
+    return rule_of(one[0], first, last - first + 1, tell)
+
+
+# The sum of the signs at some places of the window: just these count.
+def sum_rule(signs, low, many, chosen):
+    return rule_of(signs, low, many, lambda word: sum(word[at] for at in chosen) % signs)
 
 
 def tables_in_order(signs, many):

@@ -6,7 +6,10 @@ import unittest
 from rowrules.before import all_before, before_at, many_before, place_before
 from rowrules.errors import RowError
 from rowrules.forms import counting, narrow, same, widened
+from rowrules.frames import everything, frame, nodes, step
 from rowrules.joins import joined, moved, repeated, turned
+from rowrules.onto import lost, onto, reach_paper
+from rowrules.ringcounts import rings_before
 from rowrules.rows import after, comes_again, led, led_ring
 from rowrules.rules import by_number, next_sign, number_by, places, rule, still
 from rowrules.words import is_whole, number_of, word_of
@@ -14,6 +17,7 @@ from rowrules.words import is_whole, number_of, word_of
 ONE = (2, -1, (0, 1, 1, 1, 0, 1, 1, 0))
 STILL = (2, 0, (0, 1))
 WIDE = (2, 0, (0, 1) * 127 + (1, 1))
+BOTH_ONE = (2, 0, (0, 0, 0, 1))
 CALLS = [
     (is_whole, [3]),
     (is_whole, [[True]]),
@@ -80,6 +84,31 @@ CALLS = [
     (all_before, [ONE, [0, 1, 1], 2]),
     (all_before, [ONE, [0, 1, 1], 0]),
     (all_before, [ONE, [None]]),
+    (frame, [ONE]),
+    (frame, [STILL]),
+    (frame, [WIDE]),
+    (nodes, [ONE]),
+    (nodes, [WIDE]),
+    (everything, [ONE]),
+    (everything, [WIDE]),
+    (step, [ONE, 15, 0]),
+    (step, [ONE, 0, 1]),
+    (step, [WIDE, 0, 1]),
+    (rings_before, [ONE, [0, 1, 1]]),
+    (rings_before, [ONE, []]),
+    (rings_before, [ONE, [0, [1]]]),
+    (rings_before, [WIDE, [0, [1]]]),
+    (reach_paper, [ONE]),
+    (reach_paper, [STILL]),
+    (reach_paper, [BOTH_ONE]),
+    (reach_paper, [WIDE]),
+    (onto, [ONE]),
+    (onto, [STILL]),
+    (onto, [WIDE]),
+    (lost, [ONE]),
+    (lost, [STILL]),
+    (lost, [BOTH_ONE]),
+    (lost, [WIDE]),
 ]
 
 

@@ -3,28 +3,11 @@
 import unittest
 
 from helper import ALL_SIGNS, LOWS, MOST_PLACES, WINDOWS, Refusals
-from helper import mixed_rule, next_at, places_by, ring_led, rule_of, some_rules, tables_in_order, told_by
-from helper import words_in_order
+from helper import counting_by_hand, mixed_rule, next_at, places_by, ring_led, some_rules, sum_rule
+from helper import tables_in_order, told_by, words_in_order
 from rowrules.errors import NoWindow, TooWide
 from rowrules.forms import counting, narrow, same, widened
 from rowrules.rules import rule, still
-
-
-def counts_by_hand(one, at):
-    for word in words_in_order(one[0], places_by(one)):
-        for sign in range(one[0]):
-            if told_by(one, word) != told_by(one, word[:at] + [sign] + word[at + 1:]):
-                return True
-    return False
-
-
-def counting_by_hand(one):
-    return [one[1] + at for at in range(places_by(one)) if counts_by_hand(one, at)]
-
-
-# The sum of the signs at some places of the window: just these count.
-def sum_rule(signs, low, many, chosen):
-    return rule_of(signs, low, many, lambda word: sum(word[at] for at in chosen) % signs)
 
 
 def does_the_same(one, other):
