@@ -12,6 +12,8 @@ WINDOWS = [(signs, many) for signs in ALL_SIGNS for many in range(1, MOST_PLACES
 SMALL_WINDOWS = [(signs, many) for signs, many in WINDOWS if many == 1 or signs ** (many - 1) <= 9]
 LARGE_WINDOWS = [window for window in WINDOWS if window not in SMALL_WINDOWS]
 LOWS = [0, 1, -1, 7, -300, 10 ** 60 + 7, -(10 ** 60) - 3, 10 ** 299, -(10 ** 299)]
+# The numbers of all rules of two signs and four places, both ends of which count, that are one to one.
+FOUR_PLACES = [3915, 11535, 13155, 14643, 50892, 52380, 54000, 61620]
 NO_SIGNS = [True, False, None, "", "1", [], [0], (0,), {}, 1.0, 0.0, -1, -(10 ** 299), 10 ** 299]
 
 
@@ -101,6 +103,125 @@ def sum_rule(signs, low, many, chosen):
 
 def tables_in_order(signs, many):
     return [tuple(table) for table in itertools.product(range(signs), repeat=signs ** many)]
+
+
+def number_by_hand(word, signs):
+    return sum(sign * signs ** k for k, sign in enumerate(reversed(word)))
+
+
+def ways_by_hand(one):
+    """The frame's words as (first signs, last signs, sign told), by their numbers."""
+    framed = frame_by_hand(one)
+    return [
+        (number_by_hand(word[:-1], one[0]), number_by_hand(word[1:], one[0]), told_by(framed, word))
+        for word in words_in_order(one[0], places_by(framed))
+    ]
+
+
+def next_set(ways, some, sign):
+    return sum(2 ** end for end in {v for u, v, told in ways if some >> u & 1 and told == sign})
+
+
+def all_nodes(ways):
+    return 2 ** (max(u for u, v, told in ways) + 1) - 1
+
+
+def steps_by_hand(one):
+    """For each pair of unlike nodes, and for "even", those that step to it."""
+    ways = ways_by_hand(one)
+    nodes = sorted({u for u, v, told in ways})
+    ahead = {(u, v): set() for u in nodes for v in nodes if u != v}
+    ahead["even"] = set()
+    for u, end, told in ways:
+        for v, other, like in ways:
+            begin = "even" if u == v else (u, v)
+            come = "even" if end == other else (end, other)
+            if told == like and not begin == come == "even":
+                ahead[come].add(begin)
+    return ahead
+
+
+# The longest way that ends at the pair, told all pairs that were walked to come here; None where one comes back.
+def longest_way(ahead, pair, walked, found):
+    if pair in walked:
+        return None
+    if pair not in found:
+        lengths = [longest_way(ahead, other, walked | {pair}, found) for other in ahead[pair]]
+        found[pair] = None if None in lengths else max([0] + [length + 1 for length in lengths])
+    return found[pair]
+
+
+def shift(signs, low):
+    return (signs, low, tuple(range(signs)))
+
+
+def renaming(signs, low, by=1):
+    return (signs, low, tuple((sign + by) % signs for sign in range(signs)))
+
+
+# Signs of two tracks, a * height + b; the second track is moved by one place. The signs may be renamed ahead of it and
+# behind it.
+def track_rule(width, height, low, mixed=None):
+    names = list(range(width * height))
+    behind = list(names)
+    if mixed is not None:
+        random.Random(mixed).shuffle(names)
+        random.Random(mixed + 1).shuffle(behind)
+
+    def tell(word):
+        return behind[names[word[0]] // height * height + names[word[1]] % height]
+
+    return rule_of(width * height, low, 2, tell)
+
+
+# The last sign is a mark that stays, and ahead of a mark the signs 0 and 1 are changed for one another.
+def mark_rule(signs, low):
+    return rule_of(signs, low, 2, lambda word: 1 - word[0] if word[1] == signs - 1 and word[0] < 2 else word[0])
+
+
+# The first signs make pairs (0, 1), (2, 3) and so on. Ahead of the last sign of a pair the signs of the pair before it
+# are changed for one another. So the way back has as many places as there are pairs.
+def chain_rule(signs, low, pairs):
+    def tell(word):
+        changes = word[1] % 2 == 1 and word[1] < 2 * pairs and word[0] // 2 == word[1] // 2 - 1
+        return word[0] ^ 1 if changes else word[0]
+
+    return rule_of(signs, low, 2, tell)
+
+
+def one_to_one_rules():
+    """Rules of every kind that are one to one, and whose way back isn't too wide."""
+    for signs in ALL_SIGNS:
+        for low in (0, 1, -1, 7, -300, 10 ** 60):
+            yield shift(signs, low)
+            yield renaming(signs, low)
+        yield (signs, -2, tuple(reversed(range(signs))))
+        if signs > 2:
+            yield mark_rule(signs, -1)
+    for width, height in ((2, 2), (2, 3), (3, 2), (2, 4), (4, 2), (3, 3)):
+        yield track_rule(width, height, -1)
+        yield track_rule(width, height, 10 ** 60)
+        yield track_rule(width, height, 2, 5)
+        yield track_rule(width, height, -3, 8)
+    for low in (0, -1, -(10 ** 60)):
+        yield chain_rule(4, low, 2)
+        yield chain_rule(6, low, 3)
+        yield chain_rule(9, low, 2)
+        for number in FOUR_PLACES:
+            yield (2, low, tuple(number >> k & 1 for k in range(16)))
+
+
+def rules_of_every_kind():
+    """Small rules: any table, sums, rules that tell one sign alone, renamings, greatest and least signs."""
+    for signs, many in SMALL_WINDOWS:
+        yield from some_rules(signs, many, -1)
+        yield large_rule(signs, many)
+        yield sum_rule(signs, 10 ** 60, many, range(many))
+    for signs in ALL_SIGNS:
+        yield (signs, 5, (1,) * signs)
+        yield shift(signs, -7)
+        yield (signs, 2, tuple(reversed(range(signs))))
+        yield rule_of(signs, 0, 2, max)
 
 
 class Refusals(unittest.TestCase):

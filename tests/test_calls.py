@@ -3,21 +3,27 @@
 import copy
 import unittest
 
+from rowrules.back import way_back
 from rowrules.before import all_before, before_at, many_before, place_before
 from rowrules.errors import RowError
 from rowrules.forms import counting, narrow, same, widened
 from rowrules.frames import everything, frame, nodes, step
 from rowrules.joins import joined, moved, repeated, turned
 from rowrules.onto import lost, onto, reach_paper
+from rowrules.pairs import one_to_one, ranks, twins
+from rowrules.reaches import pair_paper, reaches
 from rowrules.ringcounts import rings_before
 from rowrules.rows import after, comes_again, led, led_ring
 from rowrules.rules import by_number, next_sign, number_by, places, rule, still
+from rowrules.weights import changed, flows, kept, total
 from rowrules.words import is_whole, number_of, word_of
 
 ONE = (2, -1, (0, 1, 1, 1, 0, 1, 1, 0))
 STILL = (2, 0, (0, 1))
 WIDE = (2, 0, (0, 1) * 127 + (1, 1))
 BOTH_ONE = (2, 0, (0, 0, 0, 1))
+# Two tracks, of which one is moved.
+TRACKS = (4, 0, (0, 1, 0, 1) * 2 + (2, 3, 2, 3) * 2)
 CALLS = [
     (is_whole, [3]),
     (is_whole, [[True]]),
@@ -109,6 +115,45 @@ CALLS = [
     (lost, [STILL]),
     (lost, [BOTH_ONE]),
     (lost, [WIDE]),
+    (pair_paper, [BOTH_ONE, ONE]),
+    (pair_paper, [ONE, TRACKS]),
+    (pair_paper, [ONE, WIDE]),
+    (reaches, [BOTH_ONE, ONE]),
+    (reaches, [ONE, ONE]),
+    (reaches, [STILL, TRACKS]),
+    (reaches, [WIDE, ONE]),
+    (ranks, [STILL]),
+    (ranks, [TRACKS]),
+    (ranks, [ONE]),
+    (ranks, [WIDE]),
+    (one_to_one, [TRACKS]),
+    (one_to_one, [ONE]),
+    (one_to_one, [WIDE]),
+    (twins, [TRACKS]),
+    (twins, [ONE]),
+    (twins, [BOTH_ONE]),
+    (twins, [WIDE]),
+    (way_back, [STILL]),
+    (way_back, [TRACKS]),
+    (way_back, [ONE]),
+    (way_back, [WIDE]),
+    (total, [2, [0, 1], [1, 1, 0]]),
+    (total, [2, [0, 1, 0, 5], [1]]),
+    (total, [2, [0, [1]], []]),
+    (total, [2, [0, 1], [0, [1]]]),
+    (flows, [ONE, [1, 1]]),
+    (flows, [STILL, [3, -1, 2, 10 ** 299]]),
+    (flows, [ONE, [0, 1]]),
+    (flows, [ONE, [0, [1]]]),
+    (flows, [WIDE, [0, [1]]]),
+    (flows, [ONE, [0] * 512]),
+    (kept, [STILL, [0, 1]]),
+    (kept, [ONE, [0, 1]]),
+    (kept, [ONE, []]),
+    (changed, [STILL, [0, 1]]),
+    (changed, [ONE, [0, 1]]),
+    (changed, [ONE, [0, 1, -1, 5]]),
+    (changed, [ONE, [0, 1, -1]]),
 ]
 
 

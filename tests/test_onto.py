@@ -2,35 +2,21 @@
 
 import unittest
 
-from helper import ALL_SIGNS, LARGE_WINDOWS, LOWS, SMALL_WINDOWS, Refusals
-from helper import frame_by_hand, large_rule, mixed_word, places_by, rule_of, some_rules, stretch_led, sum_rule
-from helper import tables_in_order, told_by, words_in_order
+from helper import ALL_SIGNS, LARGE_WINDOWS, LOWS, Refusals
+from helper import all_nodes, frame_by_hand, large_rule, mixed_word, next_set, places_by, rule_of, rules_of_every_kind
+from helper import some_rules, stretch_led, sum_rule, tables_in_order, ways_by_hand, words_in_order
 from rowrules.before import before_at, many_before
 from rowrules.errors import TooWide
 from rowrules.forms import widened
 from rowrules.joins import joined
 from rowrules.onto import lost, onto, reach_paper
 from rowrules.rules import by_number
-from rowrules.words import number_of
 
 ELEMENTARY = [by_number(2, -1, 3, number) for number in range(256)]
 ELEMENTARY_ONTO = [
     15, 30, 45, 51, 60, 75, 85, 86, 89, 90, 101, 102, 105, 106, 120, 135, 149, 150, 153, 154, 165, 166, 169, 170, 180,
     195, 204, 210, 225, 240,
 ]
-
-
-def ways_by_hand(one):
-    """The frame's words as (first signs, last signs, sign told), by their numbers."""
-    framed = frame_by_hand(one)
-    return [
-        (number_of(word[:-1], one[0]), number_of(word[1:], one[0]), told_by(framed, word))
-        for word in words_in_order(one[0], places_by(framed))
-    ]
-
-
-def next_sets(ways, signs, some):
-    return [sum(2 ** end for end in {v for u, v, told in ways if some >> u & 1 and told == sign}) for sign in range(signs)]
 
 
 # Walked from the set itself, stretches in the order of lists and the shorter ones first.
@@ -50,13 +36,13 @@ def shortest_to_nought(nexts, some):
 
 def nexts_by_hand(one):
     ways = ways_by_hand(one)
-    start = 2 ** (max(u for u, v, told in ways) + 1) - 1
+    start = all_nodes(ways)
     nexts = {}
     waiting = [start]
     while waiting:
         some = waiting.pop(0)
         if some not in nexts:
-            nexts[some] = next_sets(ways, one[0], some)
+            nexts[some] = [next_set(ways, some, sign) for sign in range(one[0])]
             waiting += nexts[some]
     return start, nexts
 
@@ -73,18 +59,6 @@ def paper_by_hand(one):
 def lost_by_hand(one):
     start, nexts = nexts_by_hand(one)
     return shortest_to_nought(nexts, start)
-
-
-def rules_of_every_kind():
-    for signs, many in SMALL_WINDOWS:
-        yield from some_rules(signs, many, -1)
-        yield large_rule(signs, many)
-        yield sum_rule(signs, 10 ** 60, many, range(many))
-    for signs in ALL_SIGNS:
-        yield (signs, 5, (1,) * signs)
-        yield (signs, -7, tuple(range(signs)))
-        yield (signs, 2, tuple(reversed(range(signs))))
-        yield rule_of(signs, 0, 2, max)
 
 
 def stretches_to_nothing(one, longest):
