@@ -1,16 +1,18 @@
-"""The way back of a small rule that is one to one."""
+"""The way back of a small rule that is one to one, and whether a rule is one."""
 
 from rowrules.before import before_at
 from rowrules.errors import NoWayBack, TooWide
 from rowrules.frames import frame
 from rowrules.pairs import EVEN, pair_nexts, ranks
-from rowrules.rules import LONGEST_TABLE, places, rule, table_length
+from rowrules.rows import lead
+from rowrules.rules import LONGEST_TABLE, heads, places, rule, table_length
 from rowrules.ways import most_steps
 from rowrules.words import word_of
 
 
-# Both ends of the window count. Rows that are alike but on one side of a place where they differ can walk from the
-# even pair so far as ways from it go, or to it so far as ways to it do, while what comes of them stays alike.
+# The window is as wide as point 27 allows, and both its ends count, so it is the narrowest. For a longest way from the
+# even pair has two rows that are alike ahead of a place and unlike there, while what comes of them stays alike as long
+# as the way goes; and a longest way to the even pair likewise from behind.
 def way_back(one):
     framed = frame(one)
     ranked = ranks(framed)
@@ -26,3 +28,16 @@ def way_back(one):
         # What leads to the window's word begins so many places ahead of the place that is asked for.
         table.append(before_at(framed, come, 0)[even])
     return rule(framed[0], -framed[1] - even, table)
+
+
+# Whether to do the first and then the second leads every row to itself. They are not joined, which may be too wide.
+def undoes(first, second):
+    many = places(first) + places(second) - 1
+    at = -first[1] - second[1]
+    if at < 0 or at >= many:
+        return False
+    for number in range(len(first[2]) * heads(second)):
+        word = word_of(number, first[0], many)
+        if lead(second, lead(first, word)) != [word[at]]:
+            return False
+    return True

@@ -28,7 +28,7 @@ def turned_back(nexts):
 def fewest_steps(nexts, ends):
     ahead = turned_back(nexts)
     left = {}
-    found = list(ends)
+    found = ends
     steps = 0
     while len(found) > 0:
         further = []

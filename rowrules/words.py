@@ -12,6 +12,14 @@ def is_sign(thing, signs):
     return is_whole(thing) and 0 <= thing and thing < signs
 
 
+def is_word(word, signs):
+    return all([is_sign(thing, signs) for thing in word])
+
+
+def is_ring(word, signs):
+    return len(word) > 0 and is_word(word, signs)
+
+
 def check_word(word, signs):
     for at, thing in enumerate(word):
         if not is_sign(thing, signs):

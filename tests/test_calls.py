@@ -4,17 +4,22 @@ import copy
 import unittest
 
 from rowrules.back import way_back
+from rowrules.basis import all_kept, changes
 from rowrules.before import all_before, before_at, many_before, place_before
+from rowrules.book import Book
 from rowrules.errors import RowError
 from rowrules.forms import counting, narrow, same, widened
 from rowrules.frames import everything, frame, nodes, step
 from rowrules.joins import joined, moved, repeated, turned
 from rowrules.onto import lost, onto, reach_paper
 from rowrules.pairs import one_to_one, ranks, twins
+from rowrules.papers import BackPaper, ChangePaper, KeepingPaper, LostPaper, OntoPaper, Paper, RankPaper, TwinPaper
+from rowrules.papers import paper_for
 from rowrules.reaches import pair_paper, reaches
 from rowrules.ringcounts import rings_before
 from rowrules.rows import after, comes_again, led, led_ring
 from rowrules.rules import by_number, next_sign, number_by, places, rule, still
+from rowrules.texts import read_rule, read_word, show_rule, show_word
 from rowrules.weights import changed, flows, kept, total
 from rowrules.words import is_whole, number_of, word_of
 
@@ -24,6 +29,26 @@ WIDE = (2, 0, (0, 1) * 127 + (1, 1))
 BOTH_ONE = (2, 0, (0, 0, 0, 1))
 # Two tracks, of which one is moved.
 TRACKS = (4, 0, (0, 1, 0, 1) * 2 + (2, 3, 2, 3) * 2)
+
+
+# What a paper tells, and whether it holds for some rules.
+def asked(paper):
+    return (paper.told(), [answer(paper.holds, [one]) for one in (ONE, STILL, BOTH_ONE, TRACKS, WIDE)])
+
+
+def paper_of(kind, *made):
+    return asked(kind(*made))
+
+
+def asked_for(*given):
+    return asked(paper_for(*given))
+
+
+def said(rows):
+    book = Book()
+    return [answer(book.say, [row]) for row in rows]
+
+
 CALLS = [
     (is_whole, [3]),
     (is_whole, [[True]]),
@@ -154,6 +179,42 @@ CALLS = [
     (changed, [ONE, [0, 1]]),
     (changed, [ONE, [0, 1, -1, 5]]),
     (changed, [ONE, [0, 1, -1]]),
+    (all_kept, [STILL]),
+    (all_kept, [TRACKS]),
+    (all_kept, [ONE]),
+    (all_kept, [WIDE]),
+    (changes, [STILL]),
+    (changes, [TRACKS]),
+    (changes, [ONE]),
+    (changes, [WIDE]),
+    (paper_of, [Paper]),
+    (paper_of, [OntoPaper, [3, 1]]),
+    (paper_of, [LostPaper, [1, 0, 1]]),
+    (paper_of, [RankPaper, 0, [(0, 1, 1), (1, 0, 1)]]),
+    (paper_of, [BackPaper, STILL]),
+    (paper_of, [TwinPaper, [0, 1], [1, 0]]),
+    (paper_of, [KeepingPaper, [0, 1], [0, 0]]),
+    (paper_of, [ChangePaper, [0, 1], [0, 1, 1]]),
+    (asked_for, [STILL, "onto"]),
+    (asked_for, [ONE, "onto"]),
+    (asked_for, [TRACKS, "one"]),
+    (asked_for, [ONE, "one"]),
+    (asked_for, [ONE, "kept", [0, 1]]),
+    (asked_for, [ONE, "kept", [1, 1]]),
+    (asked_for, [ONE, "kept", [1, [1]]]),
+    (asked_for, [ONE, "kept"]),
+    (asked_for, [WIDE, "kept"]),
+    (read_rule, ["2:-1:01110110"]),
+    (read_rule, ["2:-1:0111011"]),
+    (read_rule, [["2:-1:01110110"]]),
+    (show_rule, [ONE]),
+    (read_word, ["0123"]),
+    (read_word, ["-"]),
+    (read_word, ["9"]),
+    (show_word, [[0, 1, 2]]),
+    (show_word, [[]]),
+    (said, [["rule a 2:-1:01110110", "show a", "names", "onto a", "back b a", ["names"], "names"]]),
+    (said, [["names", "rule a 2:0:10", "turn b a", "join a a b", "show a", "drop b", "names", "kept a"]]),
 ]
 
 

@@ -26,6 +26,7 @@ KEYWORDS = {
     "sorted": ["key", "reverse"], "min": ["key", "default"], "max": ["key", "default"], "sum": ["start"],
     "enumerate": ["start"], "zip": ["strict"],
 }
+OUT_VALUES = "sort args encode format".split()
 OUT_PARTS = ["dataclass", "overload", "contextmanager"]
 TOP_NODES = (ast.ImportFrom, ast.FunctionDef, ast.ClassDef, ast.Assign)
 OUT_NODES = (
@@ -162,6 +163,37 @@ class TestForm(unittest.TestCase):
                     self.assertNotIn(node.id, taken, f"{name}:{node.lineno}")
                 if isinstance(node, ast.arg):
                     self.assertNotIn(node.arg, taken, f"{name}:{node.lineno}")
+
+    def test_classes(self):
+        for name, node in nodes_of(ast.ClassDef):
+            self.assertLessEqual(len(node.bases), 1, f"{name}:{node.lineno}")
+            for part in node.body:
+                self.assertIsInstance(part, (ast.FunctionDef, ast.Pass), f"{name}:{part.lineno}")
+        for name, node in nodes_of(ast.FunctionDef):
+            if node.name == "__init__":
+                self.assertEqual([part for part in ast.walk(node) if isinstance(part, ast.Return)], [], name)
+
+    def test_values_of_objects(self):
+        for name, node in nodes_of(ast.Attribute):
+            if isinstance(node.ctx, ast.Store):
+                here = f"{name}:{node.lineno}: {node.attr}"
+                self.assertEqual(getattr(node.value, "id", None), "self", here)
+                self.assertNotIn(node.attr, own_methods(), here)
+                self.assertNotIn(node.attr, METHODS + OUT_VALUES, here)
+
+    def test_what_a_file_keeps_at_its_top_is_only_read(self):
+        for name, tree in trees():
+            kept = [node.targets[0].id for node in tree.body if isinstance(node, ast.Assign)]
+            for node in ast.walk(tree):
+                if isinstance(node, ast.Subscript) and not isinstance(node.ctx, ast.Load):
+                    self.assertNotIn(getattr(node.value, "id", None), kept, f"{name}:{node.lineno}")
+                if isinstance(node, ast.Call) and isinstance(node.func, ast.Attribute):
+                    if getattr(node.func.value, "id", None) in kept:
+                        self.assertIn(node.func.attr, ("get", "index", "count", "items", "keys", "values"), name)
+            for node in tree.body:
+                if isinstance(node, ast.Assign):
+                    inner = [part for part in ast.walk(node.value) if isinstance(part, (ast.List, ast.Dict))]
+                    self.assertLessEqual(len(inner), 1, f"{name}:{node.lineno}")
 
     def test_walked_at_once(self):
         for name, tree in trees():
